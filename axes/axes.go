@@ -1,6 +1,27 @@
-package stair
+// Package axes: steps from nodes along axes, of what was checked by whoever asks. Many steps may so be gone over the same
+// nodes, which are looked through just as far as each step goes.
+package axes
 
-import "pleacher/api"
+import (
+	"slices"
+
+	"pleacher/api"
+)
+
+// Reach: the nodes that are on an axis of some of the context nodes and meet a test, in their order, each once. The nodes
+// may be, the context nodes are there, and so are the axis and the kind of the test.
+func Reach(l []api.Node, ctx []int, axis int, t api.Test) []int {
+	w := walk{l: l, ctx: inOrder(ctx), seen: map[int]struct{}{}}
+	w.along(axis)
+	return w.meeting(axis, t)
+}
+
+// inOrder: each context node once, so that none is looked at again however often it is told.
+func inOrder(ctx []int) []int {
+	sorted := slices.Clone(ctx)
+	slices.Sort(sorted)
+	return slices.Compact(sorted)
+}
 
 // walk: nodes, the context nodes in their order, and the nodes that were seen on an axis of some of them.
 type walk struct {
@@ -150,16 +171,23 @@ func (w walk) best(group func(c int) int, better func(a, b int) bool) map[int]in
 	return of
 }
 
-// roots: tells in whose tree a node is. All roots are found at once, as a way up may be long.
+// roots: tells in whose tree a node is, of nodes that come in their order: one way up is gone for each tree.
 func (w walk) roots() func(c int) int {
-	root := make([]int, len(w.l))
-	for i, x := range w.l {
-		root[i] = i
-		if x.Parent >= 0 {
-			root[i] = root[x.Parent]
+	root := -1
+	return func(c int) int {
+		if root < 0 || c > w.last(root) {
+			root = w.top(c)
 		}
+		return root
 	}
-	return func(c int) int { return root[c] }
+}
+
+// top: the node without a parent in whose tree a node is.
+func (w walk) top(n int) int {
+	for w.l[n].Parent >= 0 {
+		n = w.l[n].Parent
+	}
+	return n
 }
 
 // rowOf: the node in whose row of children a node stands; an attribute stands in none.
